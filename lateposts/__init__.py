@@ -1,0 +1,1 @@
+"""Lateposts: receivers of numbered posts that are lost, doubled and late."""
