@@ -1,6 +1,7 @@
 """Rests: all of a stand that the further answers of a receiver hang on."""
 
 from lateposts.bounds import MAX_BOUND
+from lateposts.kinds import is_index, is_integer, is_tuple
 from lateposts.receivers import lies_in
 
 # What is kept is at most 6 away from last, and a bound behind it 6 more: so each step
@@ -16,26 +17,50 @@ def rest_of(stand):
     return (state, kept - last)
 
 
+def is_rest(receiver, value):
+    """Whether any value is a rest of the receiver, reached or not."""
+    if not is_tuple(value, 1, 2) or not is_index(value[0], len(receiver)):
+        return False
+    return len(value) == 1 or (is_integer(value[1]) and abs(value[1]) <= MAX_BOUND)
+
+
 def step_from(receiver, rest, step):
     """Whether a number with this step is taken, and the rest behind it."""
-    for ahead, after, deed, to_state in receiver[rest[0]]:
-        if lies_in(step, ahead) and _comes_after(rest, step, after):
-            return _deed_done(deed, to_state, rest, step)
-    return (False, rest)
+    at = counting_row(receiver, rest, step)
+    if at is None:
+        return (False, rest)
+    return _deed_done(receiver[rest[0]][at], rest, step)
+
+
+def counting_row(receiver, rest, step):
+    """The index of the first row that is so for a number with this step, None if no row is."""
+    for at, row in enumerate(receiver[rest[0]]):
+        if lies_in(step, row[0]) and _comes_after(rest, step, row[1]):
+            return at
+    return None
+
+
+def table_of(receiver, rest):
+    """The list of what step_from tells of a rest, for all steps that are told apart, from -13 to 13."""
+    return [step_from(receiver, rest, step) for step in range(-FAR_STEP, FAR_STEP + 1)]
 
 
 def reached(receiver):
     """The ascending tuple of the rests that come behind some row of numbers."""
-    found = {(0,): True}
+    found = reached_tables(receiver)
+    return tuple([rest for rest in rests_of_states(len(receiver)) if rest in found])
+
+
+def reached_tables(receiver):
+    """The tables of the rests that come behind some row of numbers, by rest, the one of (0,) first."""
+    found = {}
     waiting = [(0,)]
     while waiting:
         rest = waiting.pop()
-        for step in range(-FAR_STEP, FAR_STEP + 1):
-            _, behind = step_from(receiver, rest, step)
-            if behind not in found:
-                found[behind] = True
-                waiting.append(behind)
-    return tuple([rest for rest in rests_of_states(len(receiver)) if rest in found])
+        if rest not in found:
+            found[rest] = table_of(receiver, rest)
+            waiting.extend([behind for _, behind in found[rest]])
+    return found
 
 
 def rests_of_states(many):
@@ -54,7 +79,9 @@ def _comes_after(rest, step, after):
     return len(rest) == 2 and lies_in(step - rest[1], after)
 
 
-def _deed_done(deed, to_state, rest, step):
+def _deed_done(row, rest, step):
+    deed = row[2]
+    to_state = row[3]
     if deed == "take":
         return (True, (to_state,))
     if deed == "keep":

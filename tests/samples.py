@@ -135,3 +135,146 @@ def plain_reached(receiver, reach=16):
                 found.add(rest)
                 waiting.append((rest[0], 0, rest[1] if len(rest) == 2 else None))
     return tuple(sorted(found))
+
+
+def random_numbers(rng, many, spread=9, last=0):
+    """So many numbers, some of them told again, about as far from one another as bounds are."""
+    numbers = []
+    number = last
+    for _ in range(many):
+        if numbers and rng.random() < 0.2:
+            numbers.append(rng.choice(numbers[-3:]))
+        else:
+            number += rng.randint(-spread // 2, spread)
+            numbers.append(number)
+    return tuple(numbers)
+
+
+def with_rows(receiver, state, rows):
+    return receiver[:state] + (tuple(rows),) + receiver[state + 1:]
+
+
+def reshaped(rng, receiver):
+    """A receiver that answers alike, told by other rows or states."""
+    shapes = [swapped_states, row_twice, row_in_two, more_states, state_twice]
+    for _ in range(4):
+        receiver = rng.choice(shapes)(rng, receiver)
+    return receiver
+
+
+def renumbered(receiver, numbers):
+    """The receiver with state k at the index numbers[k]."""
+    states = [None] * len(receiver)
+    for at, state in enumerate(receiver):
+        states[numbers[at]] = tuple(entry[:3] + (numbers[entry[3]],) for entry in state)
+    return tuple(states)
+
+
+def swapped_states(rng, receiver):
+    others = list(range(1, len(receiver)))
+    rng.shuffle(others)
+    return renumbered(receiver, [0] + others)
+
+
+def row_twice(rng, receiver):
+    state = rng.randrange(len(receiver))
+    rows = receiver[state]
+    if not 0 < len(rows) < 6:
+        return receiver
+    at = rng.randrange(len(rows))
+    again = rng.randint(at + 1, len(rows))
+    return with_rows(receiver, state, rows[:again] + (rows[at],) + rows[again:])
+
+
+def row_in_two(rng, receiver):
+    state = rng.randrange(len(receiver))
+    rows = receiver[state]
+    wide = [at for at, entry in enumerate(rows) if None not in entry[0] and entry[0][0] < entry[0][1]]
+    if not wide or len(rows) == 6:
+        return receiver
+    at = rng.choice(wide)
+    low, high = rows[at][0]
+    middle = rng.randint(low, high - 1)
+    parts = (((low, middle),) + rows[at][1:], ((middle + 1, high),) + rows[at][1:])
+    return with_rows(receiver, state, rows[:at] + parts + rows[at + 1:])
+
+
+def more_states(rng, receiver):
+    if len(receiver) == 4:
+        return receiver
+    return receiver + (tuple(random_row(rng, len(receiver) + 1) for _ in range(rng.randint(0, 6))),)
+
+
+def state_twice(rng, receiver):
+    """A state is told a second time, and some rows lead to the second one."""
+    if len(receiver) == 4:
+        return receiver
+    state = rng.randrange(len(receiver))
+    receiver = receiver + (receiver[state],)
+    many = len(receiver)
+    return tuple(
+        tuple(entry[:3] + (many - 1,) if entry[3] == state and rng.random() < 0.5 else entry for entry in rows)
+        for rows in receiver
+    )
+
+
+def near(rng, receiver):
+    """A receiver that is unlike in one row at most."""
+    state = rng.randrange(len(receiver))
+    rows = receiver[state]
+    if not rows or (len(rows) < 6 and rng.random() < 0.2):
+        return with_rows(receiver, state, rows[:5] + (random_row(rng, len(receiver)),))
+    at = rng.randrange(len(rows))
+    if rng.random() < 0.2:
+        return with_rows(receiver, state, rows[:at] + rows[at + 1:])
+    ahead, after, deed, to_state = rows[at]
+    low, high = ahead
+    if rng.random() < 0.3 and low is not None and high != low:
+        ahead = (low + 1, high)
+    elif rng.random() < 0.4 and high is not None and high < 6:
+        ahead = (low, high + 1)
+    elif rng.random() < 0.5:
+        to_state = rng.randrange(len(receiver))
+    else:
+        deed = rng.choice(("take", "leave", "drop"))
+    return with_rows(receiver, state, rows[:at] + ((ahead, after, deed, to_state),) + rows[at + 1:])
+
+
+def full_receiver(rng):
+    """A receiver of four states with six rows each."""
+    return tuple(tuple(random_row(rng, 4) for _ in range(6)) for _ in range(4))
+
+
+def many_rests():
+    """A receiver whose 56 rests are all reached, no two of them alike."""
+    return tuple(
+        (
+            ((None, None), (state + 1, state + 1), "take", 0),
+            ((None, None), (6, 6), "leave", (state + 1) % 4),
+            ((None, None), (5, 5), "drop", state),
+            ((-6, 6), None, "keep", state),
+        )
+        for state in range(4)
+    )
+
+
+def random_place(rng, many):
+    """The runs of a place with a next below many, no two beside one another alike."""
+    highs = sorted(rng.sample(range(-13, 13), rng.choice((0, 0, 1, 2, 3, 5)))) + [None]
+    runs = []
+    for high in highs:
+        choices = [(taken, to) for taken in (True, False) for to in range(many)]
+        if runs:
+            choices.remove(runs[-1][1:])
+        runs.append((high,) + rng.choice(choices))
+    return tuple(runs)
+
+
+def random_places(rng, many):
+    return tuple(random_place(rng, many) for _ in range(many))
+
+
+def counting_places(many):
+    """The least places that take each one of so many greater numbers, the last of them."""
+    places = [((0, False, 0), (None, False, at + 1)) for at in range(many - 1)]
+    return tuple(places) + (((None, True, 0),),)

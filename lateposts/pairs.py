@@ -1,0 +1,155 @@
+"""Two receivers: whether and where they answer unlike."""
+
+from lateposts.hearing import answers
+from lateposts.kinds import is_integer, is_tuple
+from lateposts.rests import FAR_STEP, is_rest, rests_of_states, table_of
+
+START = ((0,), (0,))
+
+
+def alike(one, other, *, rising=False):
+    """Whether two receivers give the same answers."""
+    _, end = _first_unlike(one, other, rising, True)
+    return end is None
+
+
+def parting(one, other, *, rising=False):
+    """None if two receivers are alike, otherwise a shortest row of numbers to whose last one they answer unlike."""
+    links, end = _first_unlike(one, other, rising, True)
+    if end is None:
+        return None
+    return _numbers_of(_steps_to(links, end), rising)
+
+
+def parting_holds(one, other, value, *, rising=False):
+    """Whether any value is a row of numbers to whose last one two receivers answer unlike, and not before."""
+    if not isinstance(value, tuple) or not all([is_integer(number) for number in value]):
+        return False
+    if len(value) == 0 or (rising and not _rises(value)):
+        return False
+    told = answers(one, value)
+    told_by_other = answers(other, value)
+    return told[:-1] == told_by_other[:-1] and told[-1] != told_by_other[-1]
+
+
+def pairing_of(one, other):
+    """The least pairing of two receivers, None if they are not alike."""
+    links, end = _first_unlike(one, other, False, True)
+    if end is not None:
+        return None
+    found = {(meeting[0], meeting[1]): True for meeting in links}
+    rests = rests_of_states(len(other))
+    pairs = [(rest, other_rest) for rest in rests_of_states(len(one)) for other_rest in rests]
+    return tuple([pair for pair in pairs if pair in found])
+
+
+def pairing_holds(one, other, value):
+    """Whether any value is a pairing of two receivers."""
+    if not isinstance(value, tuple) or not all([_is_pair(one, other, pair) for pair in value]):
+        return False
+    if not all([value[at] < value[at + 1] for at in range(len(value) - 1)]):
+        return False
+    pairs = {pair: True for pair in value}
+    return START in pairs and _is_closed(one, other, pairs)
+
+
+def below(one, other, *, rising=False):
+    """Whether the other receiver takes the number wherever the answers are unlike at first."""
+    _, end = _first_unlike(one, other, rising, False)
+    return end is None
+
+
+def _first_unlike(one, other, rising, either):
+    """Search rows of numbers, shorter ones first, for one that two receivers answer alike but for its last number.
+
+    Returns (links, end). A meeting is (rest of the one, rest of the other, floor): the next number is to have a
+    step greater than the floor. links tells for each meeting that was found the link by which it was, None for the
+    first one; a link is (meeting ahead, step, taken). end is the link to the first unlike answer, None if there is
+    none. If not either, unlike answers count only where the one takes the number.
+    """
+    start = START + (_floor_behind(rising, True, 0),)
+    links = {start: None}
+    meetings = [start]
+    at = 0
+    tables = {}
+    other_tables = {}
+    while at < len(meetings):
+        meeting = meetings[at]
+        at = at + 1
+        rest, other_rest, floor = meeting
+        if rest not in tables:
+            tables[rest] = table_of(one, rest)
+        if other_rest not in other_tables:
+            other_tables[other_rest] = table_of(other, other_rest)
+        for step in range(floor + 1, FAR_STEP + 1):
+            taken, behind = tables[rest][step + FAR_STEP]
+            other_taken, other_behind = other_tables[other_rest][step + FAR_STEP]
+            together = (behind, other_behind, _floor_behind(rising, taken, step))
+            if taken != other_taken:
+                if either or taken:
+                    return (links, (meeting, step, taken))
+            elif together not in links:
+                links[together] = (meeting, step, taken)
+                meetings.append(together)
+    return (links, None)
+
+
+def _floor_behind(rising, taken, step):
+    """The step that the next number is to be greater than, as it is counted from last then."""
+    if not rising:
+        return -FAR_STEP - 1
+    if taken:
+        return 0
+    # Beyond it there are always greater numbers, and they are all answered alike.
+    return step if step < FAR_STEP else FAR_STEP - 1
+
+
+def _steps_to(links, end):
+    """The steps of the links up to the end, each with whether the number is taken."""
+    steps = []
+    link = end
+    while link is not None:
+        meeting, step, taken = link
+        steps.append((step, taken))
+        link = links[meeting]
+    return steps[::-1]
+
+
+def _numbers_of(steps, rising):
+    """The numbers that have these steps, heard from 0 on."""
+    numbers = []
+    last = 0
+    for step, taken in steps:
+        number = last + step
+        # The greatest step stands for all beyond it, so a later number may be as far ahead as it must.
+        if rising and numbers and number <= numbers[-1]:
+            number = numbers[-1] + 1
+        numbers.append(number)
+        if taken:
+            last = number
+    return tuple(numbers)
+
+
+def _rises(numbers):
+    """Whether numbers rise from above 0 on."""
+    before = 0
+    for number in numbers:
+        if number <= before:
+            return False
+        before = number
+    return True
+
+
+def _is_pair(one, other, value):
+    return is_tuple(value, 2, 2) and is_rest(one, value[0]) and is_rest(other, value[1])
+
+
+def _is_closed(one, other, pairs):
+    """Whether from all pairs each step is answered alike and leads to a pair again."""
+    tables = {rest: table_of(one, rest) for rest in rests_of_states(len(one))}
+    other_tables = {rest: table_of(other, rest) for rest in rests_of_states(len(other))}
+    for rest, other_rest in pairs:
+        for (taken, behind), (other_taken, other_behind) in zip(tables[rest], other_tables[other_rest]):
+            if taken != other_taken or (behind, other_behind) not in pairs:
+                return False
+    return True
