@@ -54,10 +54,20 @@ def run_at(place, step):
 
 def least_tables(receiver):
     """The places of the receiver's form, each as a table: what run_at tells of all steps from -13 to 13."""
-    found = reached_tables(receiver)
-    index = {rest: at for at, rest in enumerate(found)}
-    tables = [[(taken, index[behind]) for taken, behind in found[rest]] for rest in found]
+    tables = _by_number(reached_tables(receiver))
     return _as_led_to(tables, _alike_classes(tables))
+
+
+def alike_rests(found):
+    """A number for each rest of tables by rest; two have the same one exactly if they answer alike."""
+    classes = _alike_classes(_by_number(found))
+    return {rest: classes[at] for at, rest in enumerate(found)}
+
+
+def _by_number(found):
+    """The list of tables by rest, in which the rests are told by their indexes in it."""
+    index = {rest: at for at, rest in enumerate(found)}
+    return [[(taken, index[behind]) for taken, behind in found[rest]] for rest in found]
 
 
 def _alike_classes(tables):

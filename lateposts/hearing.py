@@ -30,6 +30,31 @@ def stand_after(receiver, numbers, *, last=0):
     return stand
 
 
+def numbers_of(steps, rising):
+    """The numbers that have these steps, each told with whether it is taken, heard from 0 on."""
+    numbers = []
+    last = 0
+    for step, taken in steps:
+        number = last + step
+        # The greatest step stands for all beyond it, so a later number may be as far ahead as it must.
+        if rising and numbers and number <= numbers[-1]:
+            number = numbers[-1] + 1
+        numbers.append(number)
+        if taken:
+            last = number
+    return tuple(numbers)
+
+
+def rises(numbers):
+    """Whether numbers rise from above 0 on."""
+    before = 0
+    for number in numbers:
+        if number <= before:
+            return False
+        before = number
+    return True
+
+
 def _stand_at(rest, last):
     if len(rest) == 1:
         return (rest[0], last, None)

@@ -14,3 +14,8 @@ def is_index(value, many):
 def is_tuple(value, fewest, most):
     """Whether a value is a tuple with as many items as told."""
     return isinstance(value, tuple) and fewest <= len(value) <= most
+
+
+def is_numbers(value):
+    """Whether a value is a tuple of integers."""
+    return isinstance(value, tuple) and all([is_integer(number) for number in value])

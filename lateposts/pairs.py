@@ -1,31 +1,29 @@
 """Two receivers: whether and where they answer unlike."""
 
-from lateposts.hearing import answers
-from lateposts.kinds import is_integer, is_tuple
-from lateposts.rests import FAR_STEP, is_rest, rests_of_states, table_of
+from lateposts.hearing import answers, numbers_of, rises
+from lateposts.kinds import is_numbers, is_tuple
+from lateposts.rests import FAR_STEP, floor_behind, is_rest, rests_of_states, steps_to, table_of
 
 START = ((0,), (0,))
 
 
 def alike(one, other, *, rising=False):
     """Whether two receivers give the same answers."""
-    _, end = _first_unlike(one, other, rising, True)
+    _, end = _first_unlike(one, other, START, rising, True)
     return end is None
 
 
 def parting(one, other, *, rising=False):
     """None if two receivers are alike, otherwise a shortest row of numbers to whose last one they answer unlike."""
-    links, end = _first_unlike(one, other, rising, True)
+    links, end = _first_unlike(one, other, START, rising, True)
     if end is None:
         return None
-    return _numbers_of(_steps_to(links, end), rising)
+    return numbers_of(steps_to(links, end), rising)
 
 
 def parting_holds(one, other, value, *, rising=False):
     """Whether any value is a row of numbers to whose last one two receivers answer unlike, and not before."""
-    if not isinstance(value, tuple) or not all([is_integer(number) for number in value]):
-        return False
-    if len(value) == 0 or (rising and not _rises(value)):
+    if not is_numbers(value) or len(value) == 0 or (rising and not rises(value)):
         return False
     told = answers(one, value)
     told_by_other = answers(other, value)
@@ -34,7 +32,7 @@ def parting_holds(one, other, value, *, rising=False):
 
 def pairing_of(one, other):
     """The least pairing of two receivers, None if they are not alike."""
-    links, end = _first_unlike(one, other, False, True)
+    links, end = _first_unlike(one, other, START, False, True)
     if end is not None:
         return None
     found = {(meeting[0], meeting[1]): True for meeting in links}
@@ -55,19 +53,34 @@ def pairing_holds(one, other, value):
 
 def below(one, other, *, rising=False):
     """Whether the other receiver takes the number wherever the answers are unlike at first."""
-    _, end = _first_unlike(one, other, rising, False)
+    _, end = _first_unlike(one, other, START, rising, False)
     return end is None
 
 
-def _first_unlike(one, other, rising, either):
+def alike_from(one, rest, other, other_rest):
+    """Whether two receivers give the same answers to all rows of numbers, each from a rest of its own on."""
+    _, end = _first_unlike(one, other, (rest, other_rest), False, True)
+    return end is None
+
+
+def parting_steps(one, rest, other, other_rest):
+    """The steps of a shortest row to whose last number two receivers answer unlike from these rests on.
+
+    Each one stands with whether the one receiver takes it. There must be such a row.
+    """
+    links, end = _first_unlike(one, other, (rest, other_rest), False, True)
+    return steps_to(links, end)
+
+
+def _first_unlike(one, other, rests, rising, either):
     """Search rows of numbers, shorter ones first, for one that two receivers answer alike but for its last number.
 
-    Returns (links, end). A meeting is (rest of the one, rest of the other, floor): the next number is to have a
-    step greater than the floor. links tells for each meeting that was found the link by which it was, None for the
-    first one; a link is (meeting ahead, step, taken). end is the link to the first unlike answer, None if there is
-    none. If not either, unlike answers count only where the one takes the number.
+    They begin with these rests. Returns (links, end). A meeting is (rest of the one, rest of the other, floor): the
+    next number is to have a step greater than the floor. links tells for each meeting that was found the link by which
+    it was, None for the first one; a link is (meeting ahead, step, taken). end is the link to the first unlike answer,
+    None if there is none. If not either, unlike answers count only where the one takes the number.
     """
-    start = START + (_floor_behind(rising, True, 0),)
+    start = rests + (floor_behind(rising, True, 0),)
     links = {start: None}
     meetings = [start]
     at = 0
@@ -84,7 +97,7 @@ def _first_unlike(one, other, rising, either):
         for step in range(floor + 1, FAR_STEP + 1):
             taken, behind = tables[rest][step + FAR_STEP]
             other_taken, other_behind = other_tables[other_rest][step + FAR_STEP]
-            together = (behind, other_behind, _floor_behind(rising, taken, step))
+            together = (behind, other_behind, floor_behind(rising, taken, step))
             if taken != other_taken:
                 if either or taken:
                     return (links, (meeting, step, taken))
@@ -92,52 +105,6 @@ def _first_unlike(one, other, rising, either):
                 links[together] = (meeting, step, taken)
                 meetings.append(together)
     return (links, None)
-
-
-def _floor_behind(rising, taken, step):
-    """The step that the next number is to be greater than, as it is counted from last then."""
-    if not rising:
-        return -FAR_STEP - 1
-    if taken:
-        return 0
-    # Beyond it there are always greater numbers, and they are all answered alike.
-    return step if step < FAR_STEP else FAR_STEP - 1
-
-
-def _steps_to(links, end):
-    """The steps of the links up to the end, each with whether the number is taken."""
-    steps = []
-    link = end
-    while link is not None:
-        meeting, step, taken = link
-        steps.append((step, taken))
-        link = links[meeting]
-    return steps[::-1]
-
-
-def _numbers_of(steps, rising):
-    """The numbers that have these steps, heard from 0 on."""
-    numbers = []
-    last = 0
-    for step, taken in steps:
-        number = last + step
-        # The greatest step stands for all beyond it, so a later number may be as far ahead as it must.
-        if rising and numbers and number <= numbers[-1]:
-            number = numbers[-1] + 1
-        numbers.append(number)
-        if taken:
-            last = number
-    return tuple(numbers)
-
-
-def _rises(numbers):
-    """Whether numbers rise from above 0 on."""
-    before = 0
-    for number in numbers:
-        if number <= before:
-            return False
-        before = number
-    return True
 
 
 def _is_pair(one, other, value):

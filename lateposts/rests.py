@@ -63,6 +63,58 @@ def reached_tables(receiver):
     return found
 
 
+def links_of(tables, rising):
+    """How the rests of these tables come behind rows of numbers, all or rising ones, each by as short a row as can be.
+
+    A place is (rest, floor): the next number is to have a step greater than the floor. A link tells how a place was
+    found: (place ahead, step, taken), None for the one behind the empty row. The links stand by their places, those
+    behind shorter rows first.
+    """
+    start = ((0,), floor_behind(rising, True, 0))
+    links = {start: None}
+    places = [start]
+    at = 0
+    while at < len(places):
+        place = places[at]
+        at = at + 1
+        rest, floor = place
+        for step in range(floor + 1, FAR_STEP + 1):
+            taken, behind = tables[rest][step + FAR_STEP]
+            found = (behind, floor_behind(rising, taken, step))
+            if found not in links:
+                links[found] = (place, step, taken)
+                places.append(found)
+    return links
+
+
+def floor_behind(rising, taken, step):
+    """The step that the next number is to be greater than, as it is counted from last then."""
+    if not rising:
+        return -FAR_STEP - 1
+    if taken:
+        return 0
+    # Beyond it there are always greater numbers, and they are all answered alike.
+    return step if step < FAR_STEP else FAR_STEP - 1
+
+
+def steps_to(links, end):
+    """The steps of the links up to the end, each with whether the number is taken."""
+    steps = []
+    link = end
+    while link is not None:
+        ahead, step, taken = link
+        steps.append((step, taken))
+        link = links[ahead]
+    return steps[::-1]
+
+
+def near_step(step):
+    """The step from -13 to 13 that is answered as this one."""
+    if step > FAR_STEP:
+        return FAR_STEP
+    return step if step > -FAR_STEP else -FAR_STEP
+
+
 def rests_of_states(many):
     """The ascending list of all rests of a receiver with so many states, reached or not."""
     rests = []
