@@ -1,5 +1,6 @@
 """Values that several tests use, and a plain reading of the document to test against."""
 
+import inspect
 import random
 
 from lateposts import errors
@@ -30,6 +31,8 @@ def image(value):
         return (dict, [(image(key), image(item)) for key, item in value.items()])
     if value is None or isinstance(value, (int, str)):
         return (value.__class__, value)
+    if inspect.isclass(value) or inspect.isroutine(value):
+        return (value.__class__, id(value))
     return (value.__class__, id(value), image(vars(value)))
 
 

@@ -98,6 +98,18 @@ class FallingTest(DisorderTest):
         far = ((row((-6, -6), None, "keep", 1),), (row((None, None), (-6, None), "leave", 1), row((None, None))))
         self.check_falling(2, far)
 
+    def test_rows_that_only_numbers_far_ahead_begin(self):
+        """6 ahead something is kept; 12 ahead a number is still in the range behind it, 13 ahead none is."""
+        for side, within, beyond in ((6, (None, 6), 19), (-6, (-6, None), -19)):
+            receiver = (
+                (row((side, side), None, "keep", 1),),
+                (row((None, None), within, "leave", 1), row((None, None), None, "leave", 2)),
+                (row((0, 0)),),
+            )
+            self.check_falling(3, receiver)
+            self.check(True, falling_holds, receiver, (side, beyond, 0))
+            self.check(False, falling_holds, receiver, (side, 2 * side, 0))
+
     def test_as_point_14_says(self):
         lengths = []
         for receiver in samples(141, 160):
@@ -130,7 +142,8 @@ class FallingTest(DisorderTest):
         self.assertTrue(50 < sum(found) < len(found) - 50)
 
     def test_holds_for_no_other_value(self):
-        for value in odd_values() + [(), (True,), (0, False), (None,), ("0",), ((0,),), (0, (0,)), (0, [0]), [0], (0, None)]:
+        for value in odd_values() + [(), (True,), (0, False), (None,), ("0",), ((0,),), (0, (0,)), (0, [0]), [0],
+                                     (0, None)]:
             self.check(False, falling_holds, ALWAYS, value)
         for value in (nested(0, 20), ((0,), 0), (0, "0", 0), (0,) * 1999 + (False,)):
             self.check(False, falling_holds, ALWAYS, value)
@@ -177,8 +190,23 @@ class DoublesTest(DisorderTest):
             numbers, at = doubled_row(receiver)
             self.assertLess(at, len(numbers) - 1)
 
+    def test_doubles_that_only_numbers_far_ahead_show(self):
+        """6 ahead something is kept; 12 ahead a number is still in the range behind it, 13 ahead none is."""
+        for side, within, beyond in ((6, (None, 6), 19), (-6, (-6, None), -19)):
+            near_by = row((None, None), within, "leave", 1)
+            receiver = (
+                (row((side, side), None, "keep", 1),),
+                (near_by, row((None, None), None, "leave", 2)),
+                (near_by[:3] + (2,), row((None, None), None, "leave", 3)),
+                (row((1, 1)),),
+            )
+            self.check_doubles(False, receiver)
+            self.check(True, doubled_holds, receiver, ((side, beyond, 1), 1))
+            self.check(False, doubled_holds, receiver, ((side, 2 * side, 1), 1))
+
     def test_states_that_only_look_unlike(self):
-        self.check_doubles(True, ((row((4, 4), None, "leave", 1), row((1, 2))), (row((4, 4), None, "leave", 0), row((1, 2)))))
+        to_and_fro = ((row((4, 4), None, "leave", 1), row((1, 2))), (row((4, 4), None, "leave", 0), row((1, 2))))
+        self.check_doubles(True, to_and_fro)
         self.check_doubles(True, ((row((4, 4), None, "keep"), row((1, 1), (None, None)), row((1, 1))),))
         self.check_doubles(True, (U[0], ALWAYS[0]))
 

@@ -71,7 +71,8 @@ class IsLogTest(CallsTest):
     def test_no_other_value(self):
         for value in odd_values() + [
             (7, True), ((7,),), ((7, True, 0),), ((True, 7),), ((True, True),), ((False, False),), ((7, 1),), ((7, 0),),
-            ((7, None),), ((7, "+"),), ((None, True),), (("7", True),), (((7,), True),), ((7, (True,)),), (((7, True),),),
+            ((7, None),), ((7, "+"),), ((None, True),), (("7", True),), (((7,), True),), ((7, (True,)),),
+                                     (((7, True),),),
             [(7, True)], ([7, True],), ((7, True), [8, True]), ((7, True), ()), ((7, True), None), ((7, True), 8),
             "7+", nested(7, 20), R, U, {7: True}, ({7: True},), ((7, True),) * 39 + ((7, 1),),
         ]:
@@ -118,7 +119,8 @@ class FitsTest(RangesTest):
         in_two = ((row((1, 2)), row((3, 4)), row((5, 6))),)
         self.check(((1, 6),), fits, in_two, ((7, True),))
         self.check(((None, None),), fits, ((row((1, None)), row((None, 0))),), ((7, True),))
-        self.check(((None, None),), fits, ((row((1, 3), None, "leave", 0), row((None, 5), None, "drop")),), ((7, False),))
+        self.check(((None, None),), fits, ((row((1, 3), None, "leave", 0), row((None, 5), None, "drop")),),
+                   ((7, False),))
 
     def test_numbers_of_any_size(self):
         log = ((7, False), (8, True))

@@ -94,7 +94,8 @@ class WaitsTest(CallsTest):
             self.check(wait, waits, receiver, 0)
 
     def test_the_longest_wait_behind_a_number_that_is_not_taken(self):
-        receiver = ((row((6, 6), None, "leave", 1), row((1, None))), (row((6, 6), None, "leave", 0), row((9 - 3, None))))
+        receiver = ((row((6, 6), None, "leave", 1), row((1, None))),
+                    (row((6, 6), None, "leave", 0), row((9 - 3, None))))
         for lost in (0, 4, 6, HUGE):
             self.check(1, waits, receiver, lost)
         self.check(2, waits, receiver, 5)
@@ -107,6 +108,21 @@ class WaitsTest(CallsTest):
         self.check(None, waits, closes, 1)
         self.check(1, waits, closes, 2)
         self.check(None, longest_wait, closes)
+
+    def test_waits_that_only_numbers_far_ahead_find(self):
+        """6 ahead something is kept; 12 ahead a number is still in the range behind it, 13 ahead none is."""
+        near_by = row((None, None), (None, 6))
+        keeps = (row((6, 6), None, "keep", 1), row((1, None)))
+        for further, wait in ((row((6, None), None, "leave", 2), 2), (row((6, None), None, "drop", 3), None)):
+            receiver = (keeps, (near_by, further), (row((1, None)),), ())
+            self.check(1, waits, receiver, 0)
+            self.check(2 if wait else None, longest_wait, receiver)
+            self.check(2 if wait else None, longest_wait, (keeps, (near_by, further), (row((6, None)),), ()))
+        behind = (keeps, (row((None, None), (None, 6), "leave", 1), row((None, None), None, "take", 2)), ())
+        self.check(None, waits, behind, 0)
+        self.check(None, waits, behind, 3)
+        told = stuck((keeps, (near_by,)))
+        self.assertTrue(plain_stuck_holds((keeps, (near_by,)), *told), told)
 
     def test_as_point_16_says(self):
         found = []
@@ -169,8 +185,11 @@ class StuckTest(CallsTest):
                 (row((6, None), None, "leave", 3),), (row((None, 6)),))
         closes = ((row((2, 2), None, "leave", 1), row((1, None))), ())
         opens = ((row((1, 12 - 6), None, "take", 1), row((6, None))), (row((1, 3)), row((6, None), None, "drop", 0)))
-        for receiver in (R, NEVER, ((),) * 4, deep, closes, opens, window(6), paired(5, 6, 4)):
+        late = ((row((3, 3), None, "leave", 1), row((1, None))), (row((5, 5), None, "leave", 2), row((1, None))), ())
+        for receiver in (R, NEVER, ((),) * 4, deep, closes, opens, late, window(6), paired(5, 6, 4)):
             self.check_stuck(receiver)
+        self.check(((3,), 1), stuck, late)
+        self.check(((), 1), stuck, closes)
 
     def test_where_no_wait_is_endless(self):
         for receiver in (U, ALWAYS, SECOND, FAR):
@@ -209,7 +228,8 @@ class StuckTest(CallsTest):
         self.check(True, stuck_holds, NEVER, ((1, 2, 3), 0))
         for value in odd_values() + [
             (), ((),), ((), 0, 0), ((), -1), ((), -HUGE), ((), None), ((), True), ((), False), ((), "0"), ((), (0,)),
-            ((), [0]), ([], 0), [(), 0], ((0,), 0), ((-1,), 0), ((1, 1), 0), ((2, 1), 0), ((1, 2, 2), 0), ((1, 3, 2), 0),
+            ((), [0]), ([], 0), [(), 0], ((0,), 0), ((-1,), 0), ((1, 1), 0), ((2, 1), 0), ((1, 2, 2), 0),
+                                     ((1, 3, 2), 0),
             ((True,), 0), ((1, None), 0), ((1, "2"), 0), ((1, (2,)), 0), ([1], 0), (1, 0), (0, ()), (nested(1, 19), 0),
             ((False, 1), 0), ((HUGE, HUGE), 0),
         ]:
@@ -244,7 +264,8 @@ class MostLostTest(CallsTest):
 
     def test_far_steps(self):
         """Behind 11 lost ones the steps begin with 12, which alone is answered unlike 13 and more."""
-        to_twelve = ((row((None, None), (None, 6), "take", 0), row((6, 6), None, "keep", 1)), (row((None, None), (7 - 1, 6)),))
+        to_twelve = ((row((None, None), (None, 6), "take", 0), row((6, 6), None, "keep", 1)),
+                     (row((None, None), (7 - 1, 6)),))
         for patience in (1, 3, 7, HUGE):
             self.check(plain_most(to_twelve, patience), most_lost, to_twelve, patience)
 
