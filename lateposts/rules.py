@@ -111,5 +111,8 @@ class Rules:
         return any([run[1] for place in self._form for run in place])
 
     def __str__(self):
-        rows = sum([len(state) for state in self._receiver])
-        return f"{len(self._receiver)} states, {rows} rows, {len(self._form)} places"
+        return f"{len(self._receiver)} states, {_rows_in(self._receiver)} rows, {len(self._form)} places"
+
+
+def _rows_in(receiver):
+    return sum([len(state) for state in receiver])
